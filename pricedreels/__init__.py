@@ -1,0 +1,1 @@
+"""Pricedreels: reels of pictures, told in bits and read from them."""
