@@ -126,8 +126,9 @@ def list_areas(height, width):
     found = [(0, 0, height, width)]
     at = 0
     while at < len(found):
-        if is_inner(found[at]):
-            found.extend(halves(found[at]))
+        area = found[at]
+        if is_inner(area):
+            found.extend(halves(area))
         at += 1
     return found
 
