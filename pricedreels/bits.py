@@ -114,6 +114,17 @@ def in_bits(number, many):
     return f"{number:b}".zfill(many) if many else ""
 
 
+def long_length(number):
+    """How many bits the long word has, for a number that was looked at."""
+    return 2 * (fold(number) + 1).bit_length() - 1
+
+
+def grade_length(number, grade):
+    """How many bits the word of this grade has, for a number that was looked at."""
+    ones = fold(number) >> grade
+    return ones + 1 + grade if ones < ONES_OF_GRADE else ONES_OF_GRADE + BITS_BEHIND_ONES
+
+
 def take_fixed(bits, at, many):
     """As read_fixed, for bits that were looked at; many may be 0."""
     end = at + many

@@ -39,3 +39,22 @@ def are_between(rows, low, high):
 def clipped(number, low, high):
     """The nearest number from low to high."""
     return max(low, min(number, high))
+
+
+def is_plain(thing):
+    """Whether any value is a number, or a tuple of such and of such tuples."""
+    if isinstance(thing, tuple):
+        return all([is_plain(part) for part in thing])
+    return is_number(thing)
+
+
+def has_keys(thing, keys):
+    """Whether any value is a dict with just these keys, tuples of numbers and of such tuples."""
+    # A key with True in the place of 1 is found in a dict, too, and is another one.
+    return (isinstance(thing, dict) and len(thing) == len(keys) and all([key in thing for key in keys])
+            and all([is_plain(key) for key in thing]))
+
+
+def is_prices_for(thing, keys):
+    """Whether any value is a dict from just these keys to numbers."""
+    return has_keys(thing, keys) and all([is_number(number) for number in thing.values()])

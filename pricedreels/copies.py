@@ -83,3 +83,21 @@ def both_of(shape, block, vector, rows, others):
     firsts = copy_of(shape, block, vector, rows)
     seconds = copy_of(shape, block, (-dy, -dx), others)
     return tuple([(first + second) // 2 for first, second in zip(firsts, seconds)])
+
+
+def moved(shape, vector, rows):
+    """The copy by the vector for all spots of the shape, in rows."""
+    dy, dx = vector
+    across = [around(2 * x + dx, shape.width) for x in range(shape.width)]
+    found = []
+    for y in range(shape.height):
+        lines = [rows[row] for row in around(2 * y + dy, shape.height)]
+        found.append([sum([line[column] for line in lines for column in columns]) // (len(lines) * len(columns))
+                      for columns in across])
+    return found
+
+
+def vectors_of(reach):
+    """All vectors of the reach, ascending."""
+    numbers = list(range(-reach, reach + 1))
+    return [(dy, dx) for dy in numbers for dx in numbers]

@@ -105,24 +105,13 @@ def blocks_at(shape, place):
     if not is_within(place, 0, len(all_cells) - 1):
         raise BadPlace("a place is the index of a cell")
     top, left, _ = all_cells[place]
-    # A block has this place exactly if the cell is its first one, at its corner.
-    return [(top, left, size) for size in SIZES if top % size == 0 and left % size == 0]
+    return [(top, left, size) for size in sizes_at(top, left)]
 
 
 def is_cover(shape, thing):
     """Whether any value is a cover of the shape."""
     check_shape(shape)
-    if not isinstance(thing, (list, tuple)):
-        return False
-    reached = 0
-    for block in thing:
-        if not is_block_of(shape, block):
-            return False
-        place, end = place_and_end(shape, block)
-        if place != reached:
-            return False
-        reached = end
-    return reached == len(cells_of(shape))
+    return isinstance(thing, (list, tuple)) and are_cover(shape, thing)
 
 
 def many_covers(shape):
@@ -206,10 +195,34 @@ def cells_of(shape):
     return [cell for root in roots_of(shape) for cell in cells_in(shape, root)]
 
 
+def many_cells(shape, block):
+    """How many cells lie in the block."""
+    return (len(rows_of(shape, block)) + 1) // 2 * ((len(columns_of(shape, block)) + 1) // 2)
+
+
 def place_and_end(shape, block):
     """As place_of, for a block that was looked at."""
     place = cells_of(shape).index((block[0], block[1], 2))
-    return place, place + len(cells_in(shape, block))
+    return place, place + many_cells(shape, block)
+
+
+def sizes_at(top, left):
+    """The sizes of the blocks with this corner, the largest first."""
+    return [size for size in SIZES if top % size == 0 and left % size == 0]
+
+
+def are_cover(shape, blocks):
+    """Whether the blocks, any values, are a cover."""
+    all_cells = cells_of(shape)
+    reached = 0
+    for block in blocks:
+        if reached == len(all_cells) or not is_block_of(shape, block):
+            return False
+        # A block has this place exactly if the cell is its first one, at its corner.
+        if all_cells[reached] != (block[0], block[1], 2):
+            return False
+        reached += many_cells(shape, block)
+    return reached == len(all_cells)
 
 
 def many_together(shape, blocks):

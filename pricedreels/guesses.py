@@ -13,14 +13,7 @@ def modes_at(shape, block, kind):
     check_block(shape, block)
     if not is_within(kind, 0, 2):
         raise BadKind("a kind is 0, 1 or 2")
-    found = modes_within(block)
-    if kind > 0:
-        found.append("copy")
-    if kind > 1:
-        found.append("both")
-    if kind > 0:
-        found.append("still")
-    return found
+    return modes_standing(block, kind)
 
 
 def guess(shape, block, mode, plane):
@@ -65,6 +58,18 @@ def modes_within(block):
         found.append("middle")
     if left > 0 or top > 0:
         found.append("mean")
+    return found
+
+
+def modes_standing(block, kind):
+    """As modes_at, for what was looked at."""
+    found = modes_within(block)
+    if kind > 0:
+        found.append("copy")
+    if kind > 1:
+        found.append("both")
+    if kind > 0:
+        found.append("still")
     return found
 
 

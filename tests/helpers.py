@@ -30,6 +30,11 @@ def plane_of(shape, rng):
     return tuple(tuple(number() for _ in range(shape.width)) for _ in range(shape.height))
 
 
+def flat(shape, number):
+    """The plane with this number everywhere."""
+    return ((number,) * shape.width,) * shape.height
+
+
 def with_sample(plane, spot, number):
     """The plane with another number at one spot."""
     rows = [list(row) for row in plane]
@@ -106,8 +111,8 @@ def refuses(case, call, right, checks):
             raises(case, error, call, args, **names)
             case.assertEqual(kept, args)
             for later, others, *_ in checks[at + 1:]:
-                args[later] = others[0]
                 if later != index:
+                    args[later] = others[0]
                     raises(case, error, call, args, **names)
 
 
