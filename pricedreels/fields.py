@@ -1,7 +1,7 @@
 """Fields of vectors, one for each block of a size, and those of the least worth, shown by prices."""
 
 from pricedreels.bits import long_length
-from pricedreels.checks import is_number, is_prices_for, is_within
+from pricedreels.checks import is_prices_for, is_within
 from pricedreels.copies import FARTHEST, is_vector, vectors_of
 from pricedreels.errors import BadField, BadPrice, BadSize, TooMany
 from pricedreels.grids import SIZES, check_shape, quarters_of, roots_of
@@ -89,7 +89,7 @@ def field_bends(shape, now, then, size, reach):
 
 
 def check_size(size):
-    if not is_number(size) or size not in SIZES:
+    if size not in SIZES:
         raise BadSize("the blocks of a field are of size 8, 4 or 2")
 
 

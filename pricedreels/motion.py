@@ -203,9 +203,9 @@ def best_cuts(shape, rests, square):
     parts = {0: (0, [])}
     for quarter in parts_of(shape, square):
         parts = joined_cuts(parts, best_cuts(shape, rests, quarter))
-    for many, (bound, squares) in parts.items():
-        if many not in found or found[many][0] < bound:
-            found[many] = (bound, squares)
+    # One square that comes of quartering has the same spots as the square itself.
+    for many, best in parts.items():
+        found[many] = best
     return found
 
 

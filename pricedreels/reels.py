@@ -2,7 +2,7 @@
 
 from pricedreels.bits import check_stream, in_bits
 from pricedreels.checks import is_tuple_of, is_within
-from pricedreels.errors import BadItem, BadMany, BadPlace, BadReel, BadShape, BadShows, BadStream
+from pricedreels.errors import BadItem, BadMany, BadPlace, BadReel, BadShows, BadStream
 from pricedreels.grids import HIGHEST, LOWEST, MOST_SPOTS, Shape, check_shape
 from pricedreels.heads import Head, head_bits
 from pricedreels.tapes import Tape

@@ -1,8 +1,8 @@
 """Tapes: bits that are read item by item."""
 
-from pricedreels.bits import BITS_BEHIND_ONES, MOST_FOLDED, ONES_OF_GRADE, take_grade
+from pricedreels.bits import BITS_BEHIND_ONES, ONES_OF_GRADE, take_grade
 from pricedreels.errors import BadStream
-from pricedreels.heads import BITS_OF_HEAD, BITS_OF_KIND, BITS_OF_PART, take_head
+from pricedreels.heads import BITS_OF_KIND, BITS_OF_PART, take_head
 
 # A head that stands wherever one does, and leaves each part the most room.
 ROOMY_HEAD = "00" + "000" * 3 + "111" + "000" * 7
@@ -46,33 +46,27 @@ class Tape:
         return head
 
     def is_begun(self):
-        """Whether the bits end within the item that was refused, and some bits behind them make it one."""
+        """Whether the item that was refused is none because the bits end, and some bits behind make it one."""
         rest = self.bits[self.at:]
         if self.asked == "level":
             return is_level_begun(rest, self.told)
         if self.asked == "head":
             return is_head_begun(rest, self.told)
-        return any([len(word) > len(rest) and word.startswith(rest) for word in self.told.values()])
+        return any([word.startswith(rest) for word in self.told.values()])
 
 
 def is_level_begun(rest, grade):
-    """Whether the rest is the beginning of a word of the grade, and no whole one."""
-    ones = len(rest) - len(rest.lstrip("1"))
-    if ones < ONES_OF_GRADE:
-        return ones == len(rest) or len(rest) < ones + 1 + grade
+    """Whether the rest, which does not begin with a word of the grade, is the beginning of one."""
+    if not rest.startswith("1" * ONES_OF_GRADE):
+        return True
     begun = rest[ONES_OF_GRADE:]
     missing = BITS_BEHIND_ONES - len(begun)
-    if missing <= 0:
-        return False
-    least = int(begun + "0" * missing, 2)
-    greatest = int(begun + "1" * missing, 2)
-    return greatest >= ONES_OF_GRADE << grade and least <= MOST_FOLDED
+    # Bits that lack some can always go on to a number that is not too great.
+    return missing > 0 and int(begun + "1" * missing, 2) >= ONES_OF_GRADE << grade
 
 
 def is_head_begun(rest, most):
-    """Whether the rest is the beginning of the bits of a head of a kind up to most, and not all of them."""
-    if len(rest) >= BITS_OF_HEAD:
-        return False
+    """Whether the rest, which does not begin with a head of a kind up to most, is the beginning of one."""
     # Of a part that is begun the least number has the most room, or else the
     # greatest one: the longest word leaves more room than any other word.
     missing = (BITS_OF_KIND - len(rest)) % BITS_OF_PART

@@ -4,7 +4,7 @@ from pricedreels.bits import check_stream, grade_bits, in_bits, is_told, long_bi
 from pricedreels.checks import clipped, is_tuple_of, is_within
 from pricedreels.copies import both_of, copy_of, is_vector
 from pricedreels.errors import BadReferences, BadTelling
-from pricedreels.grids import (are_cover, check_block, check_shape, columns_of, fits_shape, is_block_of, quarters_of,
+from pricedreels.grids import (are_cover, check_block, check_shape, columns_of, fits_shape, quarters_of,
                                roots_of, sizes_at, spots_of)
 from pricedreels.guesses import MODES, guesses_of, modes_standing
 from pricedreels.heads import check_head, words_of

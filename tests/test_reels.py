@@ -429,6 +429,9 @@ class Begun(unittest.TestCase):
                     least, most = int(begun + "0" * (16 - many), 2), int(begun + "1" * (16 - many), 2)
                     good = many < 16 and most >= 12 * 2 ** grade and least <= 65534
                     self.assertIs(is_begun(ahead + "1" * 12 + begun), good, (grade, begun))
+                    if many == 16 and not 12 * 2 ** grade <= number <= 65534:
+                        for behind in ("0", "1", "11"):
+                            self.assertIs(is_begun(ahead + "1" * 12 + begun + behind), False)
 
     def test_tellings(self):
         head = Head(1, 0, 0, 1, (2, 3, 0, 0, 0, 3, 0, 3))
