@@ -100,6 +100,8 @@ class Plans(unittest.TestCase):
         self.assertIs(is_plan(8, (1, 2, 3, 4, 5, 6, 7, 0)), False)
         self.assertIs(is_plan(3, (1, 0, 2)), False)
         self.assertIs(is_plan(2, (0, True)), False)
+        # Too long a list, of which just so many frames come to one that is told alone.
+        self.assertIs(is_plan(3, [1, 0, 2, 2, 2]), False)
         refuses(self, is_plan, [8, None], [(0, wrong_numbers(1, 8), BadMany)])
 
     def test_all_plans(self):

@@ -167,6 +167,10 @@ class Keeping(unittest.TestCase):
         rng = random.Random(104)
         falling = [(), (), (1,), (1,), (), (4,), (0, 1)]
         self.assertEqual(trades(falling), [(0, 3), (1, 2)])
+        # As few are kept with the wait 2 as with the wait 1, and fewer than with the wait 0.
+        level = [(), (0,), (), (0, 1), (2,)]
+        self.assertEqual([least_kept(level, wait) for wait in range(6)], [3, 2, 2, 3, 4, 5])
+        self.assertEqual(trades(level), [(0, 3), (1, 2)])
         for web in [chance_web(rng, rng.randint(1, 6)) for _ in range(40)] + [falling[:6], falling]:
             found, least = [], None
             for wait in range(web_wait(web), len(web) + 1):
