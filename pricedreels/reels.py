@@ -199,7 +199,7 @@ def start_bits(shape, many):
 
 def bits_below(many):
     """How many bits the greatest number below many has without zeros in front."""
-    return (many - 1).bit_length() if many > 0 else 0
+    return (many - 1).bit_length()
 
 
 def items_in_bits(reel):

@@ -5,6 +5,7 @@ import unittest
 from helpers import (NOTHINGS, SHAPE, all_spots, plane_of, raises, refuses, with_sample, wrong_numbers, wrong_planes,
                      wrong_shapes)
 from pricedreels.bits import grade_bits, long_bits
+from pricedreels.copies import sample_at
 from pricedreels.errors import BadHead, BadPlace, BadReferences, BadShape, BadPlane, BadTelling, BadVector, TooMany
 from pricedreels.fewest import best_grade, fewest, is_fewest, is_prices, made, many_fewest, prices, steps_from
 from pricedreels.grids import Shape, blocks_at, cells, flat_plane, is_cover, place_of, quarters, roots, spots
@@ -40,6 +41,13 @@ def chance_case(rng, most=6, kind=None, reach=None):
             other = with_sample(other, spot, rng.randint(shape.low, shape.high))
         references.append(rng.choice([other, plane_of(shape, rng)]))
     return head, shape, plane, references
+
+
+def plane_moved(shape, vector, plane):
+    """The plane that copies by the vector show."""
+    dy, dx = vector
+    return tuple(tuple(sample_at(shape, plane, 2 * y + dy, 2 * x + dx) for x in range(shape.width))
+                 for y in range(shape.height))
 
 
 def lifted_levels(shape, block, rests):
@@ -245,6 +253,35 @@ class Prices(unittest.TestCase):
                 head = full_head(kind, 0, rng.randrange(3), 1 if size != (8, 8) else 0)
                 self.meets(head, shape, plane, [with_sample(plane, (0, 0), 3)] * kind)
 
+    def test_pictures_that_moved(self):
+        # All but some samples are those of the first reference, moved: the vectors that come ahead count.
+        rng = random.Random(52)
+        used = 0
+        for size in ((2, 6), (6, 3), (4, 9), (9, 2), (1, 12), (8, 4)):
+            shape = Shape(*size, 0, 60)
+            for kind in (1, 2):
+                references = [plane_of(shape, rng) for _ in range(kind)]
+                vector = (rng.choice([-1, 1]), rng.choice([-1, 0, 1]))
+                plane = plane_moved(shape, vector, references[0])
+                for spot in rng.sample(all_spots(shape), 2):
+                    plane = with_sample(plane, spot, rng.randint(0, 60))
+                head = Head(kind, 0, 2, 1, (4, 4, 4, 4, 0, 2, 3 if kind == 2 else 0, 2))
+                self.meets(head, shape, plane, references)
+                told = fewest(head, shape, plane, references)
+                used += len([1 for _, choice in told if choice == ("still",)])
+        self.assertGreater(used, 5)
+
+    def test_a_moved_picture_by_hand(self):
+        shape = Shape(2, 12, 0, 9)
+        reference = ((1, 5, 9, 2, 6, 0, 7, 3, 8, 2, 9, 0), (4, 0, 8, 3, 9, 1, 5, 0, 6, 4, 1, 7))
+        plane = tuple(row[1:] + row[-1:] for row in reference)
+        head = Head(1, 0, 0, 2, (3, 0, 0, 0, 0, 2, 0, 1))
+        self.assertEqual(fewest(head, shape, plane, [reference]), (
+            ((0, 0, 8), ("copy", 0, (0, 2), "none", ())), ((0, 8, 8), ("still",))))
+        found = prices(head, shape, plane, [reference])
+        self.assertEqual((found[START], found[(4, (0, 2))]), (1 + 2 + 1 + 5 + 1 + 1 + 1, 1 + 1))
+        self.assertEqual((found[(4, (0, 0))], found[(4, (1, 1))]), (1 + 2 + 1 + 5 + 1, 1 + 2 + 3 + 3 + 1))
+
     def test_one_cell_in_three_ways(self):
         shape = Shape(2, 2, 0, 9)
         head = Head(0, 0, 0, 0, (1, 0, 0, 0, 0, 0, 0, 0))
@@ -322,6 +359,13 @@ class Prices(unittest.TestCase):
         self.assertIs(is_fewest(head, shape, plane, [], good, {START: best[START] - 1}), False)
         self.assertIs(is_fewest(head, shape, plane, [], good, {START: best[START] + 1}), False)
         self.assertIs(is_fewest(head, shape, plane, [], good, {START: True}), False)
+        # Of other planes the fewest bits are as many: a telling has to show this one.
+        for other in (((5, 4),), ((4, 5),)):
+            found = prices(head, shape, other, [])
+            for shown in (((5, 4),), ((4, 5),)):
+                told = fewest(head, shape, shown, [])
+                self.assertEqual(worth(head, shape, told), found[START])
+                self.assertIs(is_fewest(head, shape, other, [], told, found), shown == other)
         longer = (((0, 0, 2), good[0][1]),)
         self.assertIs(is_fewest(head, shape, plane, [], longer, best), False)
         # A telling with a level that is clipped is one that shows the plane, plain or lifted, and may fit or not.
@@ -333,6 +377,23 @@ class Prices(unittest.TestCase):
         for telling in (plain, unfit):
             number = {START: worth(head, shape, telling)}
             self.assertIs(is_fewest(head, shape, plane, [], telling, number), False)
+
+    def test_a_telling_that_does_not_fit_is_none_of_the_fewest(self):
+        head, shape, plane = Head(0, 0, 1, 0, (1, 0, 0, 0, 0, 0, 0, 0)), Shape(1, 2, 0, 1), ((1, 1),)
+        best = prices(head, shape, plane, [])
+        unfit = (((0, 0, 8), ("flat", "lifted", (1, 1))),)
+        self.assertEqual((worth(head, shape, unfit), play(head, shape, unfit, [])), (best[START], plane))
+        self.assertIs(does_fit(head, shape, unfit, []), False)
+        self.assertIs(is_fewest(head, shape, plane, [], unfit, best), False)
+        self.assertIs(is_fewest(head, shape, plane, [], (((0, 0, 8), ("flat", "plain", (1, 1))),), best), True)
+
+    def test_the_best_grade_by_hand(self):
+        # The rests 3, 64 and 512 are folded to 5, 127 and 1023.
+        for shape, number, bits, grade in ((Shape(1, 1, 0, 9), 7, 1 + 1 + 2 + 4, 1), (Shape(1, 1, -512, 511), 63, 4 + 8, 6),
+                                           (Shape(1, 1, -512, 511), 511, 4 + 15, 7)):
+            head = Head(0, 0, 3, 0, (1, 0, 0, 0, 0, 0, 0, 0))
+            self.assertEqual(best_grade(head, shape, ((number,),), []), (bits, grade))
+        self.assertEqual(best_grade(Head(0, 0, 7, 0, (1, 0, 0, 0, 0, 0, 0, 0)), Shape(1, 1, 0, 9), ((4,),), []), (3, 0))
 
     def test_a_telling_that_is_clipped_may_be_fewest(self):
         # With low and high the same number each level shows it, and 0 costs no more than others.
@@ -506,6 +567,14 @@ class Made(unittest.TestCase):
         self.assertEqual(made(head, shape, plane, [plane]), (((0, 0, 8), ("still",)),))
         self.assertEqual(made(head, shape, plane, [((8, 9, 9, 9),) * 2]), (
             ((0, 0, 2), ("flat", "none", ())), ((0, 2, 2), ("still",))))
+
+    def test_lifted_ones_are_without_loss(self):
+        # The rests 2, 2, 2, 2 are the levels 1, 1, 1, 1 of the loss 1. Lifted they would be 2, 0, 0, 0, in fewer bits.
+        shape, plane = Shape(2, 2, 0, 9), ((6, 6), (6, 6))
+        for loss, told in ((0, ("flat", "lifted", (2, 0, 0, 0))), (1, ("flat", "plain", (1, 1, 1, 1))),
+                           (2, ("flat", "none", ()))):
+            head = Head(0, loss, 0, 0, (1, 0, 0, 0, 0, 0, 0, 0))
+            self.assertEqual(made(head, shape, plane, []), (((0, 0, 8), told),))
 
     def test_ties(self):
         # Of choices with as many bits the first mode, reference, vector and way counts, and the larger block.

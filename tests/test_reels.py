@@ -181,6 +181,17 @@ class Bits(unittest.TestCase):
         self.assertEqual(read_start(same), (Shape(2, 2, 511, 511), 2, 33))
         self.assertEqual(read_start("1" * 28 + "1" * 5), (Shape(16, 16, 511, 511), 32, 33))
 
+    def test_starts_at_the_ends(self):
+        for parts in ((1, 1, -512, -512), (16, 1, -512, 511), (1, 16, 511, 511), (16, 16, 0, 0), (3, 2, -511, 510)):
+            for many in (1, 2, 31, 32):
+                bits = "".join([in_many(parts[0] - 1, 4), in_many(parts[1] - 1, 4), in_many(parts[2] + 512, 10),
+                                in_many(parts[3] + 512, 10), in_many(many - 1, 5)])
+                self.assertEqual(read_start(bits), (Shape(*parts), many, 33))
+                self.assertEqual(read_start(bits + "0"), (Shape(*parts), many, 33))
+            reel = Reel(Shape(*parts), [(0, (), FLAT_HEAD, tuple(
+                ((top, left, 8), ("flat", "none", ())) for top in range(0, parts[0], 8) for left in range(0, parts[1], 8)))])
+            self.assertEqual(read_reel(reel_bits(reel)), reel)
+
     def test_shows_that_are_none(self):
         three = [flat_item(1), flat_item(2), flat_item(0)]
         bits = reel_bits(Reel(PAIR, three))
