@@ -2,8 +2,8 @@ import random
 import unittest
 
 from helpers import NOTHINGS, refuses, raises, wrong_numbers
-from pricedreels.bits import (fixed_bits, folded, grade_bits, is_bits, long_bits, read_fixed, read_grade, read_long,
-                              unfolded)
+from pricedreels.bits import (fixed_bits, folded, grade_bits, grade_length, is_bits, long_bits, long_length, read_fixed,
+                              read_grade, read_long, unfolded)
 from pricedreels.errors import BadAt, BadBits, BadGrade, BadMany, BadNumber, BadStream
 
 TOLD = range(-32767, 32768)
@@ -193,6 +193,15 @@ class Grade(unittest.TestCase):
         refuses(self, read_grade, ["00", 1, 0], [
             (0, WRONG_BITS, BadBits), (1, wrong_numbers(0, 2), BadAt), (2, WRONG_GRADES, BadGrade),
             (1, [2], BadStream, {"at": 2})])
+
+
+class Lengths(unittest.TestCase):
+    def test_of_words(self):
+        numbers = list(range(-1600, 1601)) + [-32767, -32766, 32766, 32767]
+        self.assertEqual([long_length(number) for number in numbers], [len(long_bits(number)) for number in numbers])
+        for grade in GRADES:
+            self.assertEqual([grade_length(number, grade) for number in numbers],
+                             [len(grade_bits(number, grade)) for number in numbers])
 
 
 def chance_bits(rng):

@@ -5,7 +5,7 @@ from math import floor
 
 from helpers import (HEAD, NOTHINGS, SHAPE, SIZES, all_blocks, all_spots, plane_of, refuses, with_sample, wrong_blocks,
                      wrong_planes, wrong_shapes)
-from pricedreels.copies import both_copied, copied, reads_copied, sample_at
+from pricedreels.copies import both_copied, copied, moved, reads_copied, sample_at, vectors_of
 from pricedreels.errors import BadBlock, BadNumber, BadPlane, BadShape, BadVector
 from pricedreels.grids import Shape, flat_plane, spots, turned
 
@@ -168,6 +168,19 @@ class Copies(unittest.TestCase):
         self.assertEqual(first, [(0, 0), (0, 1), (1, 0), (1, 1)])
         first.clear()
         self.assertEqual(len(reads_copied(SHAPE, (0, 0, 2), (0, 0))), 4)
+
+    def test_of_all_spots_at_once(self):
+        rng = random.Random(27)
+        for size in SIZES:
+            shape = Shape(*size, -9, 9)
+            plane = plane_of(shape, rng)
+            for dy, dx in rng.sample(VECTORS, 6) + [(0, 0), (-8, 8)]:
+                self.assertEqual(moved(shape, (dy, dx), plane),
+                                 [[plain_sample(shape, plane, 2 * y + dy, 2 * x + dx) for x in range(shape.width)]
+                                  for y in range(shape.height)])
+        self.assertEqual(vectors_of(8), VECTORS)
+        self.assertEqual(vectors_of(0), [(0, 0)])
+        self.assertEqual(vectors_of(1), [(-1, -1), (-1, 0), (-1, 1), (0, -1), (0, 0), (0, 1), (1, -1), (1, 0), (1, 1)])
 
     def test_wrong_inputs(self):
         plane, block = flat_plane(SHAPE, 0), (0, 0, 4)
