@@ -1,16 +1,15 @@
 """The fewest bits in which a picture is told, shown by prices, and tellings that are made at once."""
 
-from pricedreels.checks import clipped, is_prices_for, is_within
+from pricedreels.checks import is_prices_for, is_within
 from pricedreels.choices import (choice_cost, fixed_cost, guesses_at, moved_guesses, samples_at, still_guesses,
                                  vector_cost)
 from pricedreels.copies import is_vector, vectors_of
 from pricedreels.errors import BadHead, BadPlace, BadVector, TooMany
-from pricedreels.grids import (blocks_at, cells_of, check_plane, check_shape, place_and_end, quarters_of, roots_of,
-                               spots_of)
+from pricedreels.grids import blocks_at, cells_of, check_plane, check_shape, place_and_end, quarters_of, roots_of
 from pricedreels.heads import Head, check_head, words_of
 from pricedreels.losses import level_for, step_of
-from pricedreels.tellings import (STILL_VECTOR, bits_told, check_references, check_telling, guesses_by, last_behind,
-                                  lift_rests, played, quarter_bits, rests_by, vector_of)
+from pricedreels.tellings import (STILL_VECTOR, bits_told, check_references, check_telling, last_behind, lift_rests,
+                                  played, quarter_bits, show_block, vector_of)
 
 MOST_STEPS = 40000
 MANY_GRADES = 8
@@ -214,17 +213,23 @@ def offers_of(head, shape, menu):
 
 
 def prices_by(head, shape, offers):
-    """The least costs from all nodes, and from the ends, by the offers."""
+    """The least costs from the ends, and from all nodes from which the offers lead to them."""
     found = {node: 0 for node in ends_of(head, shape)}
     for node in reversed(nodes_of(head, shape)):
-        found[node] = min([cost + found[behind] for cost, _, behind in offers[node]])
+        costs = [cost + found[behind] for cost, _, behind in offers[node] if behind in found]
+        if costs != []:
+            found[node] = min(costs)
     return found
 
 
 def fewest_of(head, shape, plane, references):
     """As fewest, for what was looked at."""
     menu = menu_of(head, shape, plane, references)
-    found = prices_by(head, shape, offers_of(head, shape, menu))
+    return telling_by(head, menu, prices_by(head, shape, offers_of(head, shape, menu)))
+
+
+def telling_by(head, menu, found):
+    """The telling of the first steps, by the menu, that cost what the prices that were found fall."""
     words = words_of(head.book)
     ends = {block: end for entries in menu for block, end, _, _ in entries}
     told = []
@@ -245,7 +250,8 @@ def fewest_cost(head, shape, plane, references):
 def first_met(steps, found, ends, node):
     """The block and the choice of the first of the steps from the node that costs what the prices fall."""
     for block, choice, cost in steps:
-        if cost + found[(ends[block], last_behind(choice, node[1]))] == found[node]:
+        behind = (ends[block], last_behind(choice, node[1]))
+        if behind in found and cost + found[behind] == found[node]:
             return block, choice
     return None
 
@@ -255,10 +261,15 @@ def are_prices(head, shape, plane, references, thing):
     nodes = nodes_of(head, shape)
     if not is_prices_for(thing, nodes):
         return False
-    offers = offers_of(head, shape, menu_of(head, shape, plane, references))
+    return is_undercut_by_none(offers_of(head, shape, menu_of(head, shape, plane, references)), nodes, thing)
+
+
+def is_undercut_by_none(offers, nodes, numbers):
+    """Whether no offer from one of the nodes to another one, or to the end, costs less than the numbers fall."""
+    last = max([place for place, _ in offers])
     for node in nodes:
         for cost, _, behind in offers[node]:
-            if thing[node] - thing.get(behind, 0) > cost:
+            if (behind in numbers or behind[0] > last) and numbers[node] - numbers.get(behind, 0) > cost:
                 return False
     return True
 
@@ -302,14 +313,6 @@ class Maker:
         costs = [choice_cost(self.head, self.words, choice, last) for choice in found]
         return found[costs.index(min(costs))], min(costs)
 
-    def show(self, block, choice, last):
-        """Show what the choice tells."""
-        shape = self.shape
-        guesses = guesses_by(shape, block, choice, last, self.rows, self.references)
-        rests = rests_by(shape, block, choice, step_of(self.head.loss))
-        for (y, x), guess, rest in zip(spots_of(shape, block), guesses, rests):
-            self.rows[y][x] = clipped(guess + rest, shape.low, shape.high)
-
     def tell(self, block, last):
         """Tell the block, and show it: the cost, the pairs of blocks and choices, and the last vector behind."""
         choice, cost = self.best_choice(block, last)
@@ -324,5 +327,5 @@ class Maker:
                 told.extend(pairs)
             if parts < cost:
                 return parts, told, here
-        self.show(block, choice, last)
+        show_block(self.shape, step_of(self.head.loss), block, choice, last, self.rows, self.references)
         return cost, [(block, choice)], last_behind(choice, last)

@@ -229,13 +229,18 @@ def take_start(tape):
     return Shape(height, width, low, high), many
 
 
-def take_item(shape, many, shows, tape):
-    """The item that the tape has here, behind those with these shows."""
+def take_beginning(many, shows, tape):
+    """The show, the leans and the head that the tape has here, of the item behind those with these shows."""
     number = len(shows)
     show = tape.pick({place: in_bits(place, bits_below(many)) for place in range(many) if place not in shows})
     head = tape.whole_head(2 if number > 0 else 0)
-    leans = [take_number(tape, 0, number - 1, bits_below(number)) for _ in range(head.kind)]
-    return show, tuple(leans), head, take_telling(head, shape, tape)
+    return show, tuple([take_number(tape, 0, number - 1, bits_below(number)) for _ in range(head.kind)]), head
+
+
+def take_item(shape, many, shows, tape):
+    """The item that the tape has here, behind those with these shows."""
+    show, leans, head = take_beginning(many, shows, tape)
+    return show, leans, head, take_telling(head, shape, tape)
 
 
 def take_reel(tape):

@@ -173,19 +173,25 @@ def unlift_rests(shape, block, rests):
     return [number for row in unlifted(in_rows(rests, len(columns_of(shape, block)))) for number in row]
 
 
+def show_block(shape, step, block, choice, last, rows, references):
+    """Put what the choice shows into the rows; whether no sample of a block that is told lifted had to be clipped."""
+    guesses = guesses_by(shape, block, choice, last, rows, references)
+    rests = rests_by(shape, block, choice, step)
+    fits = True
+    for (y, x), guess, rest in zip(spots_of(shape, block), guesses, rests):
+        rows[y][x] = clipped(guess + rest, shape.low, shape.high)
+        if choice[-2:-1] == ("lifted",) and rows[y][x] != guess + rest:
+            fits = False
+    return fits
+
+
 def played(head, shape, telling, references):
     """The pair of the plane that is shown, and whether the telling fits, for what was looked at."""
     rows = [[shape.low] * shape.width for _ in range(shape.height)]
     last = STILL_VECTOR
-    step = step_of(head.loss)
     fits = True
     for block, choice in telling:
-        guesses = guesses_by(shape, block, choice, last, rows, references)
-        rests = rests_by(shape, block, choice, step)
-        for (y, x), guess, rest in zip(spots_of(shape, block), guesses, rests):
-            rows[y][x] = clipped(guess + rest, shape.low, shape.high)
-            if choice[-2:-1] == ("lifted",) and rows[y][x] != guess + rest:
-                fits = False
+        fits = show_block(shape, step_of(head.loss), block, choice, last, rows, references) and fits
         last = last_behind(choice, last)
     return tuple([tuple(row) for row in rows]), fits
 
@@ -229,15 +235,17 @@ def take_telling(head, shape, tape):
     last = STILL_VECTOR
     waiting = roots_of(shape)
     while len(waiting) > 0:
-        block = waiting[0]
-        if block[2] > 2 and tape.pick({WHOLE: WHOLE, QUARTERED: QUARTERED}) == QUARTERED:
-            waiting = quarters_of(shape, block) + waiting[1:]
-        else:
-            choice = take_choice(head, words, shape, block, last, tape)
-            pairs.append((block, choice))
-            last = last_behind(choice, last)
-            waiting = waiting[1:]
+        block, choice, waiting = take_block(head, words, shape, waiting, last, tape)
+        pairs.append((block, choice))
+        last = last_behind(choice, last)
     return tuple(pairs)
+
+
+def take_block(head, words, shape, waiting, last, tape):
+    """The block, which comes of the first that waits, and the choice that the tape has here, and what waits behind."""
+    while waiting[0][2] > 2 and tape.pick({WHOLE: WHOLE, QUARTERED: QUARTERED}) == QUARTERED:
+        waiting = quarters_of(shape, waiting[0]) + waiting[1:]
+    return waiting[0], take_choice(head, words, shape, waiting[0], last, tape), waiting[1:]
 
 
 def take_choice(head, words, shape, block, last, tape):

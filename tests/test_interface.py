@@ -58,9 +58,33 @@ INTERFACE = {
         may_lean(costs,frame,other) hold(costs) is_hold(costs,thing) hold_sum(costs,paper)
         is_least_plan(costs,plan,thing) stuck(costs) costs_of(shape,frames,alone,leaning)
         planned(shape,frames,alone,leaning,plan) web_of(reel)""",
+    "harm": """is_stretch(shape,memory,thing) shown(shape,memory,stretch,store) behind(shape,memory,stretch,store)
+        between(shape,memory,stretch,low,high) right(shape,memory,stretch) looks(shape,memory,stretch,index,spot)
+        harm(shape,memory,stretch,store,hurt) worst(shape,memory,stretch,store,hurt)
+        spread(shape,memory,stretch,store,error) after_losses(shape,memory,stretch,store,lost)
+        right_after(shape,memory,stretch,store,lost) enough(shape,memory,stretch,store,index) rests(shape,memory,stretch)
+        is_rests(shape,memory,stretch,thing) dies_out(shape,memory,stretch)""",
+    "renewals": """is_kept(shape,reach,renewals,thing) safe(shape,reach,renewals) spoiler(shape,reach,renewals,index,spot)
+        least_renewals(shape,reach,pictures) barrier(shape,reach,pictures,most)
+        is_barrier(shape,reach,pictures,most,thing) to_renew(shape,memory,stretch,store,lost,index)
+        with_loop(shape,losses,planes) without_loop(shape,losses,planes) drift(shape,losses) worst_planes(shape,losses)
+        heights(shape,memory,stretch,other)""",
+    "buffers": """is_sending(sizes,rate,delay,hold,room,thing) sending(sizes,rate,delay,hold,room)
+        strait(sizes,rate,delay,hold,room) is_strait(sizes,rate,delay,hold,room,thing) least_delay(sizes,rate,hold,room)
+        least_hold(sizes,rate,delay,room) least_room(sizes,rate,delay,hold) least_line_rate(sizes,delay,hold,room)
+        corners(sizes,rate) are_within(bounds,sizes) all_delay(bounds,rate) worst_sizes(bounds,rate,delay)
+        all_room(bounds,rate) share(jobs,rate) is_share(jobs,rate,thing) crush(jobs,rate) is_crush(jobs,rate,thing)
+        least_shared_rate(jobs)""",
+    "pieces": "is_state(thing) reader_of(thing)",
+}
+# The classes whose methods the document names, with the parameters of the methods.
+METHODS = {
+    ("pieces", "Reader"): """feed(bits) standing() loose() start() many_told() sight(number) shown() ending()
+        doubt(number,spot) is_doubt(number,spot,thing) state()""",
 }
 ORDER = ["errors", "checks", "bits", "grids", "guesses", "copies", "losses", "lifts", "heads", "tapes", "tellings", "choices",
-         "fewest", "motion", "fields", "reels", "waits", "webs", "gains", "plans"]
+         "fewest", "motion", "fields", "reels", "waits", "webs", "gains", "plans", "rules", "stretches", "harm", "renewals",
+         "buffers", "pieces"]
 
 PLANE = ((1, 4, 0), (1, 5, 0))
 SHAPE = Shape(2, 3, 0, 9)
@@ -69,6 +93,7 @@ LEANING = Head(1, 0, 0, 1, (2, 0, 0, 0, 0, 2, 0, 2))
 FLAT = (((0, 0, 8), ("flat", "none", ())),)
 STILL = (((0, 0, 8), ("still",)),)
 REEL = Reel(SHAPE, [(0, (), ALONE, FLAT), (1, (0,), LEANING, STILL)])
+STRETCH = [(LEANING, STILL, (0,)), (LEANING, (((0, 0, 8), ("copy", 0, (1, 0), "none", ())),), (1,))]
 
 # Values for the parameters, by their names; some modules take others.
 VALUES = {
@@ -90,6 +115,15 @@ MORE_VALUES = {
     "plans": {"costs": [[9, 2, None], [3, 8, 2], [7, 1, 9]], "plan": [1, 1, 1], "frame": 0, "other": 1,
               "paper": {(0,): 2, (1, 2): 1}, "frames": [PLANE, PLANE, PLANE], "alone": ALONE, "leaning": LEANING,
               "reel": REEL},
+    "harm": {"memory": 2, "stretch": STRETCH, "store": [PLANE, PLANE], "low": [PLANE, PLANE], "high": [PLANE, PLANE],
+             "index": 1, "spot": (1, 2), "hurt": ((0, 0, 1), (1, 1, 1)), "error": 2, "lost": (0,),
+             "thing": ("apart", [PLANE, PLANE], [PLANE, PLANE])},
+    "renewals": {"memory": 2, "stretch": STRETCH, "store": [PLANE, PLANE], "lost": (0,), "index": 1, "spot": (1, 2),
+                 "reach": 2, "renewals": [((0, 0, 2),), ()], "pictures": 2, "most": 1, "losses": [1, 2],
+                 "planes": [PLANE, PLANE, PLANE], "other": STRETCH, "thing": [[((0, 0), (1, 1))], []]},
+    "buffers": {"sizes": [4, 1, 1], "rate": 2, "delay": 2, "hold": 9, "room": 9, "bounds": (5, 6, 2),
+                "jobs": [([3, 1], 0, 2), ([2], 1, 1)], "thing": (0, 1)},
+    "pieces": {"thing": ((), (), "01")},
 }
 
 
@@ -159,11 +193,19 @@ class Interface(unittest.TestCase):
                 self.assertEqual(call(*arguments), kept, word)
 
     def test_classes_have_their_methods_themselves(self):
-        for module, name in (("grids", "Shape"), ("heads", "Head"), ("reels", "Reel")):
+        for module, name in (("grids", "Shape"), ("heads", "Head"), ("reels", "Reel"), ("pieces", "Reader")):
             found = getattr(importlib.import_module(f"pricedreels.{module}"), name)
+            self.assertEqual(found.__module__, f"pricedreels.{module}")
             self.assertIn("__eq__", vars(found))
             self.assertIn("__init__", vars(found))
             self.assertEqual("__len__" in vars(found), name == "Reel")
+            for word in METHODS.get((module, name), "").split():
+                method, parameters = word.rstrip(")").split("(")
+                signature = inspect.signature(vars(found)[method])
+                self.assertEqual(",".join(list(signature.parameters)[1:]), parameters, word)
+                for parameter in signature.parameters.values():
+                    self.assertEqual(parameter.kind, parameter.POSITIONAL_OR_KEYWORD, word)
+                    self.assertIs(parameter.default, parameter.empty, word)
 
     def test_the_package_itself_defines_nothing(self):
         tree = ast.parse((PACKAGE / "__init__.py").read_text(encoding="utf-8"))
@@ -200,7 +242,7 @@ class Language(unittest.TestCase):
             self.assertTrue(defined.issuperset(alias.name for alias in node.names), module)
 
     def test_what_the_language_leaves_out(self):
-        barred = (ast.GeneratorExp, ast.Yield, ast.Lambda, ast.Global, ast.AsyncFunctionDef, ast.Await, ast.Div, ast.Pow,
+        barred = (ast.GeneratorExp, ast.Yield, ast.Global, ast.AsyncFunctionDef, ast.Await, ast.Div, ast.Pow,
                   ast.AnnAssign, ast.MatMult)
         self.assertEqual(nodes(barred), [])
         for module, node in nodes(ast.Constant):

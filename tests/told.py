@@ -229,3 +229,70 @@ def ordered_blocks(shape):
 
 def many_cells(shape):
     return len(cells(shape))
+
+
+def chance_piece(rng, shape, memory, kinds=(0, 1, 1, 2), most=12):
+    head = chance_head(rng, rng.choice(kinds))
+    return head, chance_telling(rng, head, shape, most), tuple(rng.randrange(memory) for _ in range(head.kind))
+
+
+def chance_stretch(rng, shape, memory, many, kinds=(0, 1, 1, 2), most=12):
+    return [chance_piece(rng, shape, memory, kinds, most) for _ in range(many)]
+
+
+def chance_store(rng, shape, memory):
+    return [plane_of(shape, rng) for _ in range(memory)]
+
+
+def plain_led(shape, stretch, store, lost=None):
+    """What the pieces show, and the store behind; lost are planes in the place of pieces, by their indexes."""
+    shown, store = [], list(store)
+    for index, (head, telling, sources) in enumerate(stretch):
+        plane = plain_play(head, shape, telling, [store[source] for source in sources])[0]
+        plane = (lost or {}).get(index, plane)
+        shown.append(plane)
+        store = [plane] + store[:-1]
+    return shown, store
+
+
+def looked_within(shape, block, mode, spot):
+    """The spots at which the guess of a mode within looks for one spot."""
+    top, left, _ = block
+    y, x = spot
+    if mode == "left":
+        return {(y, left - 1)}
+    if mode == "up":
+        return {(top - 1, x)}
+    if mode == "middle":
+        return {(y, left - 1), (top - 1, x), (top - 1, left - 1)}
+    if mode == "mean":
+        return ({(row, left - 1) for row, _ in spots(shape, block) if left}
+                | {(top - 1, column) for _, column in spots(shape, block) if top})
+    return set()
+
+
+def looked_copied(shape, spot, vector):
+    """The spots of a plane from which the copy at one spot is made."""
+    places = [2 * at + by for at, by in zip(spot, vector)]
+    sides = [{min(max(at, 0), most - 1) for at in {place // 2, -(-place // 2)}}
+             for place, most in zip(places, (shape.height, shape.width))]
+    return {(y, x) for y in sides[0] for x in sides[1]}
+
+
+def looked_by_telling(shape, telling):
+    """For each spot at which spots of the picture, and of which references, its guess looks, as two sets."""
+    found, last = {}, (0, 0)
+    for block, choice in telling:
+        for spot in spots(shape, block):
+            mode = choice[0]
+            outside = set()
+            if mode in ("copy", "still"):
+                number, vector = (choice[1], choice[2]) if mode == "copy" else (0, last)
+                outside = {(number,) + other for other in looked_copied(shape, spot, vector)}
+            elif mode == "both":
+                dy, dx = choice[1]
+                outside = {(0,) + other for other in looked_copied(shape, spot, (dy, dx))}
+                outside |= {(1,) + other for other in looked_copied(shape, spot, (-dy, -dx))}
+            found[spot] = (looked_within(shape, block, mode, spot), outside)
+        last = vector_behind(choice, last)
+    return found
