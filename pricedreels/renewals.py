@@ -332,8 +332,8 @@ def are_alike_but_for_levels(stretch, other):
         if head != head_there or sources != sources_there or len(telling) != len(telling_there):
             return False
         for (block, choice), (block_there, choice_there) in zip(telling, telling_there):
-            # Of "still" alone a choice has no last item that are levels.
-            if block != block_there or choice[:-1] != choice_there[:-1] or len(choice) != len(choice_there):
+            # The last item of a choice is its levels; "still", which has none, is the only one without others.
+            if block != block_there or choice[:-1] != choice_there[:-1]:
                 return False
     return True
 

@@ -6,7 +6,7 @@ from helpers import (NOTHINGS, all_spots, flat, plane_of, raises, refuses, with_
                      wrong_shapes)
 from pricedreels.errors import (BadError, BadHurt, BadIndex, BadLots, BadMemory, BadShape, BadSpot, BadStore,
                                 BadStretch, TooMany)
-from pricedreels.grids import Shape
+from pricedreels.grids import Shape, cells
 from pricedreels.harm import (after_losses, behind, between, dies_out, enough, harm, is_rests, is_stretch, looks, rests,
                               right, right_after, shown, spread, worst)
 from pricedreels.heads import Head
@@ -363,12 +363,20 @@ class Losses(unittest.TestCase):
                    (COPY, ((ROOT, ("copy", 0, (4, 4), "none", ())),), (0,))]
         self.assertEqual(enough(shape, 2, stretch, [flat(shape, 0)] * 2, 3), [(0, 2, 3), (1, 2, 3)])
         self.assertEqual(enough(shape, 2, stretch, [flat(shape, 0)] * 2, 2), [(0, 1, 2)])
+        stretch.insert(1, (COPY, STILL, (0,)))
+        self.assertEqual(enough(shape, 2, stretch, [flat(shape, 0)] * 2, 4), [(2, 3, 4), (0, 1, 3, 4)])
 
 
-def ring(low, still=False):
-    """A shape and a piece whose two halves change places, the second one risen by one."""
-    told = (((0, 0, 2), ("copy", 0, (0, 4), "none", ())), ((0, 2, 2), ("copy", 0, (0, -4), "plain", (1, 1))))
-    return Shape(1, 6 if still else 4, low, 511), told + ((((0, 4, 2), ("copy", 0, (0, 0), "none", ())),) if still else ())
+RING = Shape(4, 14, -512, 511)
+
+
+def ring(behind, others=("flat", "none", ())):
+    """A telling of four cells that change places, one of them risen by one, and of others that follow one another."""
+    told = {(0, 0, 2): ("copy", 0, (4, 0), "plain", (1,) * 4), (0, 2, 2): ("copy", 0, (0, -4), "none", ()),
+            (2, 2, 2): ("copy", 0, (-4, 0), "none", ()), (2, 0, 2): ("copy", 0, (0, 4), "none", ())}
+    for top, left in [(2, 4), (2, 6), (2, 8), (2, 10), (2, 12), (0, 12)][:behind]:
+        told[(top, left, 2)] = ("copy", 0, (0, -4) if top else (4, 0), "none", ())
+    return tuple((cell, told.get(cell, others)) for cell in cells(RING))
 
 
 class Rests(unittest.TestCase):
@@ -437,26 +445,34 @@ class Rests(unittest.TestCase):
         self.assertIs(is_rests(POINT, 1, middle, ("healed", 1, store)), True)
         for thing in wrongs:
             self.assertIs(is_rests(POINT, 1, middle, thing), False, thing)
+        self.assertIs(is_rests(POINT, 2, middle, ("healed", 2, store * 2)), True)
+        for part in (None, ((10,),), ((True,),), (4,)):
+            self.assertIs(is_rests(POINT, 2, middle, ("healed", 2, store + [part])), False)
+            self.assertIs(is_rests(POINT, 2, middle, ("healed", 2, [part] + store)), False)
         self.assertIs(is_rests(POINT, 1, still, ("apart", store, other)), True)
         for thing in wrongs + [["apart", store, other], ("apart", store), ("apart", store, other, 1), ("apart", store, [5]),
-                               ("apart", store * 2, other), ("apart", store, other * 2), ("apart", store, [((10,),)])]:
+                               ("apart", store * 2, other), ("apart", store, other * 2), ("apart", store, [((10,),)]),
+                               ("rest", store, other), (None, store, other), ("healed", store, other), (POINT, store, other)]:
             if thing != ("apart", other, store):
                 self.assertIs(is_rests(POINT, 1, still, thing), False, thing)
 
     def test_as_many_rounds_as_can_be(self):
-        shape, told = ring(-1)
-        store = [flat(shape, 511)] * 4
-        self.assertEqual(rests(shape, 4, [(COPY, told, (3,))]), ("healed", 4096, store))
-        self.assertIs(is_rests(shape, 4, [(COPY, told, (3,))], ("healed", 4096, store)), True)
-        self.assertIs(is_rests(shape, 4, [(COPY, told, (3,))], ("healed", 4095, store)), False)
-        shape, told = ring(-1, True)
-        self.assertEqual(rests(shape, 4, [(COPY, told, (3,))]),
-                         ("apart", [((511, 511, 511, 511, -1, -1),)] * 4, [flat(shape, 511)] * 4))
-        for still in (False, True):
-            shape, told = ring(-2, still)
-            for call in (rests, dies_out):
-                raises(self, TooMany, call, [shape, 4, [(COPY, told, (3,))]], most=4096)
-            self.assertIs(is_rests(shape, 4, [(COPY, told, (3,))], ("healed", 4096, [flat(shape, 511)] * 4)), False)
+        stays = ("copy", 0, (0, 0), "none", ())
+        piece = (COPY, ring(5), (0,))
+        kind, rounds, store = rests(RING, 1, [piece])
+        self.assertEqual((kind, rounds), ("healed", 4096))
+        self.assertIs(is_rests(RING, 1, [piece], ("healed", 4096, store)), True)
+        self.assertIs(is_rests(RING, 1, [piece], ("healed", 4095, store)), False)
+        self.assertIs(dies_out(RING, 1, [piece]), True)
+        piece = (COPY, ring(6), (0,))
+        for call in (rests, dies_out):
+            raises(self, TooMany, call, [RING, 1, [piece]], most=4096)
+        self.assertIs(is_rests(RING, 1, [piece], ("healed", 4097, shown(RING, 1, [piece], store))), False)
+        # Apart, too, they may be at rest behind so many rounds and no more.
+        kind, low, high = rests(RING, 1, [(COPY, ring(5, stays), (0,))])
+        self.assertEqual((kind, high), ("apart", [flat(RING, 511)]))
+        self.assertEqual(low, [((511,) * 4 + (-512,) * 10,) * 2 + ((511,) * 14,) * 2])
+        raises(self, TooMany, rests, [RING, 1, [(COPY, ring(6, stays), (0,))]], most=4096)
 
 
 if __name__ == "__main__":
