@@ -262,6 +262,11 @@ class Bounds(unittest.TestCase):
             sizes = [rng.randint(0, 4) for _ in range(rng.randint(1, 5))]
             self.assertIs(are_within(bounds, sizes), tuple(sizes) in lists_within(bounds, len(sizes)))
             self.assertIs(are_within(bounds, tuple(sizes)), are_within(bounds, sizes))
+        self.assertIs(are_within((3, 1, 1), [0, 0, 3]), False)
+        self.assertIs(are_within((3, 1, 1), [0, 0, 2]), True)
+        self.assertIs(are_within((3, 0, 3), [3, 3, 3]), True)
+        self.assertIs(are_within((4, 0, 1), [2]), False)
+        self.assertIs(are_within((4, 2, 2), [3, 3, 3]), False)
         self.assertIs(are_within((9999, 99999, 9999), [9999] * 12), True)
         self.assertIs(are_within((9999, 99999, 1), [9999] * 10 + [9, 12]), True)
         self.assertIs(are_within((9999, 99999, 1), [9999] * 10 + [9, 13]), False)
@@ -461,6 +466,10 @@ class Jobs(unittest.TestCase):
         for thing in NOTHINGS + [SHAPE, [0, 1], (0,), (0, 1, 1), (False, 1), (0, True), (0, None), ("0", 1), (1, 0), (-1, 1), (0, 2),
                                  (0, 0), (1, 1)]:
             self.assertIs(is_crush(jobs, 2, thing), False, thing)
+
+        jobs = [([9], 0, 1)]
+        for pair in ((-1, 1), (0, 2), (-1, 0), (1, 1)):
+            self.assertIs(is_crush(jobs, 2, pair), False)
 
     def test_wrong_inputs(self):
         good = [([0, 9999] * 3, 20, 20)] * 5
