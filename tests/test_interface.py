@@ -76,15 +76,30 @@ INTERFACE = {
         all_room(bounds,rate) share(jobs,rate) is_share(jobs,rate,thing) crush(jobs,rate) is_crush(jobs,rate,thing)
         least_shared_rate(jobs)""",
     "pieces": "is_state(thing) reader_of(thing)",
+    "stocks": """choice_cost(stock,wanted,chosen) staying(stock,wanted,chosen) least_cut(stock,wanted)
+        cut_choices(stock,wanted) shares(stock,wanted) is_shares(stock,wanted,thing) floor_of(stock,wanted,paper)
+        is_least_cut(stock,wanted,chosen,thing)""",
+    "cuts": "stock_of(reel,head) cut(reel,wish,head) hidden(reel,wish,head) joined(one,other)",
+    "looks": """row_play(shape,row,references) row_looks(shape,row,spot) hangs_on(shape,row,spot)
+        meaning(shape,row,spot)""",
+    "likeness": """alike(shape,one,other) parting(shape,one,other) is_parting(shape,one,other,thing)
+        apart(shape,one,other) fewest_like(head,shape,row) like_prices(head,shape,row)
+        is_like_prices(head,shape,row,thing) is_fewest_like(head,shape,row,telling,thing) strand(head,shape,row)
+        is_strand(head,shape,row,thing)""",
+    "lines": """least_pictures(reel,lot) greatest_pictures(reel,lot) rights(reel,lot) best_guess(reel,lot,number)
+        Line(reel,rate,wait) wait_for(reel,rate,losses)""",
 }
 # The classes whose methods the document names, with the parameters of the methods.
 METHODS = {
     ("pieces", "Reader"): """feed(bits) standing() loose() start() many_told() sight(number) shown() ending()
         doubt(number,spot) is_doubt(number,spot,thing) state()""",
+    ("lines", "Line"): """send(number) tick() lose() undo() moment() there() busy() works() log() right() copy()
+        hope(losses) advice(losses) strategy(losses) is_strategy(losses,number,thing) account(losses)
+        is_account(losses,number,thing)""",
 }
 ORDER = ["errors", "checks", "bits", "grids", "guesses", "copies", "losses", "lifts", "heads", "tapes", "tellings", "choices",
          "fewest", "motion", "fields", "reels", "waits", "webs", "gains", "plans", "rules", "stretches", "harm", "renewals",
-         "buffers", "pieces"]
+         "buffers", "pieces", "stocks", "cuts", "rows", "looks", "likeness", "games", "lines"]
 
 PLANE = ((1, 4, 0), (1, 5, 0))
 SHAPE = Shape(2, 3, 0, 9)
@@ -93,6 +108,9 @@ LEANING = Head(1, 0, 0, 1, (2, 0, 0, 0, 0, 2, 0, 2))
 FLAT = (((0, 0, 8), ("flat", "none", ())),)
 STILL = (((0, 0, 8), ("still",)),)
 REEL = Reel(SHAPE, [(0, (), ALONE, FLAT), (1, (0,), LEANING, STILL)])
+PAIR = Shape(1, 2, 0, 2)
+PAIR_PLANE = ((0, 2),)
+ROW = [(LEANING, (((0, 0, 8), ("copy", 0, (0, 1), "none", ())),))]
 STRETCH = [(LEANING, STILL, (0,)), (LEANING, (((0, 0, 8), ("copy", 0, (1, 0), "none", ())),), (1,))]
 
 # Values for the parameters, by their names; some modules take others.
@@ -124,6 +142,13 @@ MORE_VALUES = {
     "buffers": {"sizes": [4, 1, 1], "rate": 2, "delay": 2, "hold": 9, "room": 9, "bounds": (5, 6, 2),
                 "jobs": [([3, 1], 0, 2), ([2], 1, 1)], "thing": (0, 1)},
     "pieces": {"thing": ((), (), "01")},
+    "stocks": {"stock": ([(), (0,), (1,)], [10, 2, 2], [10, 9, 9]), "wanted": (1, 2), "chosen": (1, 2),
+               "paper": {(1, 0): 7}, "thing": {(1, 0): 7}},
+    "cuts": {"reel": REEL, "wish": [1], "one": REEL, "other": REEL},
+    "looks": {"row": ROW, "references": [PAIR_PLANE], "spot": (0, 1), "shape": PAIR},
+    "likeness": {"row": ROW, "one": ROW, "other": ROW * 2, "shape": PAIR, "head": LEANING, "telling": STILL,
+                 "thing": ((0, (0, 0)),)},
+    "lines": {"reel": REEL, "lot": (1,), "number": 1, "rate": 20, "wait": 2, "losses": 1},
 }
 
 
@@ -193,12 +218,13 @@ class Interface(unittest.TestCase):
                 self.assertEqual(call(*arguments), kept, word)
 
     def test_classes_have_their_methods_themselves(self):
-        for module, name in (("grids", "Shape"), ("heads", "Head"), ("reels", "Reel"), ("pieces", "Reader")):
+        for module, name in (("grids", "Shape"), ("heads", "Head"), ("reels", "Reel"), ("pieces", "Reader"),
+                             ("lines", "Line")):
             found = getattr(importlib.import_module(f"pricedreels.{module}"), name)
             self.assertEqual(found.__module__, f"pricedreels.{module}")
             self.assertIn("__eq__", vars(found))
             self.assertIn("__init__", vars(found))
-            self.assertEqual("__len__" in vars(found), name == "Reel")
+            self.assertEqual("__len__" in vars(found), name in ("Reel", "Line"))
             for word in METHODS.get((module, name), "").split():
                 method, parameters = word.rstrip(")").split("(")
                 signature = inspect.signature(vars(found)[method])
