@@ -246,7 +246,7 @@ class Likener:
         return found
 
     def menu(self):
-        """The entries of the blocks of each place: the block, its end, its choices, the vectors by which it is still."""
+        """The entries of the blocks of each place: block, end, choices, and the vectors by which it is still."""
         found = []
         for place in range(len(cells_of(self.shape))):
             entries = []

@@ -91,7 +91,7 @@ class Net:
         return self.tables[number]
 
     def values_by(self, groups, rest, mask):
-        """The values of what is made of samples by the groups and the rest, over all ways in which the mask can stand."""
+        """The values of what the groups and the rest make of samples, over all ways in which the mask can stand."""
         members = sorted({other for group in groups for other in group})
         places = tuple([tuple([members.index(other) for other in group]) for group in groups])
         columns = [self.spread(other, mask) for other in members]
