@@ -123,6 +123,12 @@ class Cuts(unittest.TestCase):
         self.assertEqual(hidden(twin, [2, 0], ALONE), (1,))
         self.assertEqual(cut(twin, [2, 0], ALONE), Reel(PAIR, [(2, (), ALONE, bright), (1, (0,), STILL_HEAD, STILL), (0, (0,), STILL_HEAD, STILL)]))
         self.assertEqual(hidden(twin, [2], ALONE), ())
+        # Five pictures lean on two, of which neither is wanted.
+        stripes = [((ROOT, ("flat", "plain", levels)),) for levels in ((5, 5, -4, -4), (5, -4, 5, -4))]
+        double = Reel(PAIR, [(6, (), ALONE, stripes[0]), (5, (), ALONE, stripes[1])] + [
+            (show, (0, 1), BOTH_HEAD, FLAT_BOTH) for show in range(5)])
+        self.assertEqual(hidden(double, [2, 0, 1, 4, 3], ALONE), (5, 6))
+        self.assertEqual([item[0] for item in cut(double, [2, 0, 1, 4, 3], ALONE).entries], [5, 6, 1, 2, 0, 4, 3])
 
     def test_facts(self):
         rng = random.Random(613)
