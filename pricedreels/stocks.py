@@ -35,8 +35,7 @@ def cut_choices(stock, wanted):
 def shares(stock, wanted):
     """Shares with the greatest floor."""
     check_wanted(stock, wanted)
-    found = shares_of(stock, wanted)
-    return {pair: found[pair] for pair in sorted(list(found)) if found[pair] > 0}
+    return {pair: number for pair, number in shares_of(stock, wanted).items() if number > 0}
 
 
 def is_shares(stock, wanted, thing):
@@ -196,7 +195,7 @@ def choices_of_least_cost(stock, wanted):
     gains, costs = left_by(stock, found)
     items = list(range(len(costs)))
     # What a gain that is left leads to is in each choice; what leads to bits that are left is in none.
-    needed = [way[-1] for way in ways_on(found, gains) if len(way) % 2 == 0]
+    needed = [way[-1] for way in ways_on(found, gains)]
     barred = leading_to(found, [item for item in items if costs[item] > 0])
     return (tuple([item for item in items if item in wanted or item in needed]),
             tuple([item for item in items if item in wanted or item not in barred]))

@@ -205,6 +205,11 @@ class Stocks(unittest.TestCase):
         self.assertIs(is_least_cut(EXAMPLE, (1, 2), (0, 1, 2), {(1, 0): 7}), False)
         self.assertIs(is_least_cut(EXAMPLE, (1, 2), (1, 2), {(1, 0): 6}), False)
         self.assertIs(is_shares(EXAMPLE, (1, 2), {}), True)
+        cheap = ([(), (0,), (0,)], [1, 0, 0], [3, 9, 9])
+        for pair in ({(1, 0): 3}, {(1, 0): 2, (2, 0): 1}, {(1, 1): 9}, {(1, 0): 3, (1, 1): 6}):
+            self.assertIs(is_shares(cheap, (2,), pair), True)
+        for pair in ({(1, 0): 4}, {(1, 0): 2, (2, 0): 2}, {(1, 1): 10}, {(1, 0): 3, (1, 1): 7}):
+            self.assertIs(is_shares(cheap, (2,), pair), False)
 
 
 if __name__ == "__main__":
