@@ -1,10 +1,12 @@
+import inspect
 import itertools
 import random
+import sys
 import unittest
 
 from helpers import NOTHINGS, all_spots, flat, plane_of, raises, refuses, with_sample, wrong_planes, wrong_shapes
 from pricedreels.errors import BadReferences, BadRow, BadShape, BadSpot, TooMany
-from pricedreels.grids import Shape
+from pricedreels.grids import Shape, cells
 from pricedreels.heads import Head
 from pricedreels.looks import hangs_on, meaning, row_looks, row_play
 from told import book_for, chance_head, chance_shape, chance_telling, looked_by_telling, plain_play
@@ -161,6 +163,30 @@ class Meanings(unittest.TestCase):
         self.assertEqual(meaning(LINE, low, (0, 0)), (((0, 0, 0), (0, 0, 1)), (((3, 3),), (), ())))
         # It looks at both samples and hangs on neither, or on one.
         self.assertEqual(hangs_on(Shape(1, 2, 0, 1), [(COPY, ((ROOT, ("copy", 0, (0, 1), "plain", (-1, 0))),))], (0, 0)), ())
+
+    def test_hangs_on_one_of_those_at_which_it_looks(self):
+        shape = Shape(2, 4, 0, 3)
+        for levels, row in (((0, 9, 0, 0), 1), ((0, 0, 0, 9), 0), ((0, 9, 0, 9), None), ((0, 0, 0, 0), 2)):
+            telling = (((0, 0, 2), ("copy", 0, (0, 0), "plain", levels)), ((0, 2, 2), ("mean", "none", ())))
+            head = Head(1, 0, 0, 0, book_for(1))
+            expected = {1: ((0, 1, 1),), 0: ((0, 0, 1),), 2: ((0, 0, 1), (0, 1, 1)), None: ()}[row]
+            self.assertEqual(row_looks(shape, [(head, telling)], (1, 3)), ((0, 0, 1), (0, 1, 1)))
+            self.assertEqual(hangs_on(shape, [(head, telling)], (1, 3)), expected)
+            if len(expected) == 1:
+                self.assertEqual(meaning(shape, [(head, telling)], (1, 3)), (expected, (((0,),), ((1,),), ((3,),))))
+
+    def test_no_deep_recursion(self):
+        shape = Shape(16, 16, 0, 1)
+        head = Head(1, 0, 0, 0, book_for(1))
+        told = tuple((cell, ("copy", 0, (0, 0), "none", ()) if cell[:2] == (0, 0) else ("left" if cell[1] else "up", "none", ()))
+                     for cell in cells(shape))
+        limit = sys.getrecursionlimit()
+        try:
+            sys.setrecursionlimit(len(inspect.stack()) + 30)
+            found = meaning(shape, [(head, told)] * 3, (15, 15))
+        finally:
+            sys.setrecursionlimit(limit)
+        self.assertEqual(found, (((0, 1, 1),), (((1,),),)))
 
     def test_limits(self):
         # Twelve samples of two values, two of 64, one of 1024 are just not too many.
