@@ -76,6 +76,16 @@ class Likeness(unittest.TestCase):
             more = chance_row(rng, shape, 1, 1, 2)
             self.assertLessEqual(apart(shape, rows[0] + more, rows[1] + more), ways[(0, 1)])
 
+    def test_parted_by_the_highest_numbers_alone(self):
+        # Risen and fallen again, only the highest number is not what it was.
+        shape = Shape(1, 2, -3, 1)
+        moved = [(COPY, ((ROOT, ("copy", 0, (0, 0), "plain", (level, 0))),)) for level in (1, -1)]
+        self.assertEqual(parting(shape, moved, [(COPY, STILL)]), ((0, 0), [((1, -3),)]))
+        self.assertEqual(apart(shape, moved, [(COPY, STILL)]), 1)
+        self.assertEqual(parting(shape, moved[::-1], [(COPY, STILL)]), ((0, 0), [((-3, -3),)]))
+        half = (COPY, ((ROOT, ("copy", 0, (0, 1), "none", ())),))
+        self.assertEqual(parting(shape, [half], [half] + moved), ((0, 0), [((1, 1),)]))
+
     def test_is_parting_of_any_value(self):
         one, other = [(COPY, HALF)], [(COPY, COPIED)]
         plane = ((3, 0),)
@@ -434,7 +444,24 @@ class Fewest(unittest.TestCase):
             judged(Head(1, 0, 0, 0, (1, 2, 0, 0, 0, 0, 0, 0)), shape, row, False)
         judged(Head(1, 0, 0, 2, book_for(1)), Shape(1, 4, 7, 7), [(COPY, ((ROOT, ("copy", 0, (0, 0), "none", ())),))], False)
 
+    def test_guesses_from_what_the_last_pair_shows(self):
+        shape = Shape(1, 4, 0, 3)
+        copied = (COPY, ((ROOT, ("copy", 0, (0, 0), "none", ())),))
+        left = Head(1, 0, 0, 0, (2, 2, 0, 0, 0, 2, 0, 0))
+        shown = (left, (((0, 0, 2), ("flat", "none", ())), ((0, 2, 2), ("left", "none", ()))))
+        head = Head(1, 0, 0, 0, (7, 1, 0, 0, 0, 0, 0, 0))
+        for row in ([shown], [copied, shown], [copied, copied, shown]):
+            self.assertEqual(fewest_like(head, shape, row), (((0, 0, 8), ("flat", "none", ())),))
+        shown = (left, (((0, 0, 2), ("flat", "plain", (0, 2))), ((0, 2, 2), ("left", "none", ()))))
+        for row in ([shown], [copied, shown], [copied, copied, shown]):
+            self.assertEqual(fewest_like(head, shape, row), (((0, 0, 2), ("flat", "plain", (0, 2))), ((0, 2, 2), ("left", "none", ()))))
+
     def test_levels_nearest_to_zero(self):
+        # The first sample on the right is guessed to be the highest number, and is: no level is shorter than 0.
+        shape = Shape(1, 4, 0, 4)
+        low = Head(0, 0, 0, 0, (2, 1, 0, 0, 0, 0, 0, 0))
+        row = [(low, (((0, 0, 2), ("flat", "plain", (2, 2))), ((0, 2, 2), ("flat", "plain", (99, 1)))))]
+        self.assertEqual(like_prices(low, shape, row)[(1, (0, 0))], len("0" + "10" + "0" + "110"))
         # The sample is the highest number whatever is copied: any level that is great enough does.
         shape = Shape(1, 1, 0, 4)
         head = Head(1, 0, 0, 0, (7, 0, 0, 0, 0, 1, 0, 0))
