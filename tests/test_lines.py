@@ -100,6 +100,12 @@ class Lots(unittest.TestCase):
         self.assertEqual(best_guess(EXAMPLE, (0,), 1), (((4, 4), (4, 4)), 5))
         self.assertEqual(best_guess(EXAMPLE, (0,), 0), (((4, 4), (4, 4)), 0))
         self.assertEqual((least_pictures(EXAMPLE, ()), greatest_pictures(EXAMPLE, (1,))), ([flat(PAIR, 0)] * 2, [flat(PAIR, 9)] * 2))
+        # Where a part is known, the rest can be as wrong as ever.
+        head = Head(1, 0, 0, 0, (1, 0, 0, 0, 0, 1, 0, 0))
+        told = (((0, 0, 2), ("flat", "none", ())), ((0, 2, 2), ("copy", 0, (0, 0), "none", ())))
+        for blocks in (told, (((0, 0, 2), told[1][1]), ((0, 2, 2), told[0][1]))):
+            half = Reel(Shape(1, 4, 0, 9), [(0, (), ALONE, FLAT), (1, (0,), head, blocks)])
+            self.assertEqual(best_guess(half, (1,), 1), (((4,) * 4,), 5))
         # It is known, though what it leans on is not there, if its levels are great enough.
         bright = Reel(PAIR, [(1, (), ALONE, FLAT), (0, (0,), STILL_HEAD, ((ROOT, ("flat", "plain", (9,) * 4)),))])
         self.assertEqual(rights(bright, (1,)), (0,))
